@@ -6,6 +6,7 @@ import (
 	"souffleur/api"
 	"souffleur/expr"
 	"souffleur/quote"
+	"souffleur/row"
 )
 
 const (
@@ -29,7 +30,7 @@ func mayStand(l []api.Cmd, open int) bool {
 func mayBe(c api.Cmd, open int) bool {
 	word, form := formOf(c.Kind)
 	return word != "" && holdsOnly(c, form) &&
-		(form&aName == 0 || isName(c.Name)) &&
+		(form&aName == 0 || row.IsName(c.Name)) &&
 		(form&aNumber == 0 || c.N >= least(c.Kind)) &&
 		(form&aText == 0 || quote.May(c.Parts)) &&
 		(form&aCond == 0 || expr.May(c.Cond)) &&
@@ -47,11 +48,6 @@ func holdsOnly(c api.Cmd, form int) bool {
 		(form&aBlock != 0 || len(c.Body) == 0) &&
 		(form&anElse != 0 || len(c.Else) == 0) &&
 		(form&someRules != 0 || len(c.Rules) == 0)
-}
-
-// isName tells whether s is a NAME: those of one digit are no words.
-func isName(s string) bool {
-	return quote.Name(s) && !('0' <= s[0] && s[0] <= '9')
 }
 
 // least answers the least N of a command of the kind.

@@ -3,6 +3,7 @@ package script
 import (
 	"souffleur/api"
 	"souffleur/expr"
+	"souffleur/row"
 )
 
 // appendCmds puts the tokens of the commands l, which may be, behind out.
@@ -15,9 +16,9 @@ func appendCmds(out []api.Token, l []api.Cmd) []api.Token {
 
 func appendCmd(out []api.Token, c api.Cmd) []api.Token {
 	word, form := formOf(c.Kind)
-	out = appendWord(out, word)
+	out = row.AppendWords(out, word)
 	if form&aName != 0 {
-		out = appendWord(out, c.Name)
+		out = row.AppendWords(out, c.Name)
 	}
 	if form&aNumber != 0 {
 		out = appendN(out, c)
@@ -32,7 +33,7 @@ func appendCmd(out []api.Token, c api.Cmd) []api.Token {
 		out = appendBlock(out, c.Body)
 	}
 	if form&anElse != 0 && len(c.Else) > 0 {
-		out = appendBlock(appendWord(out, "else"), c.Else)
+		out = appendBlock(row.AppendWords(out, "else"), c.Else)
 	}
 	if form&someRules != 0 {
 		out = appendRules(out, c.Rules)
@@ -44,62 +45,38 @@ func appendCmd(out []api.Token, c api.Cmd) []api.Token {
 func appendN(out []api.Token, c api.Cmd) []api.Token {
 	switch {
 	case c.Kind == api.CmdIncr && c.N < 0:
-		return appendNumber(appendSign(out, "-"), -c.N)
+		return row.AppendNumber(row.AppendSign(out, "-"), -c.N)
 	case c.Kind == api.CmdTimeout && c.N == never:
-		return appendWord(out, "never")
+		return row.AppendWords(out, "never")
 	}
-	return appendNumber(out, c.N)
+	return row.AppendNumber(out, c.N)
 }
 
 func appendCond(out []api.Token, e api.Expr) []api.Token {
 	// There is no error, as e may be.
 	tokens, _ := expr.Tokens(e)
-	return appendSign(append(appendSign(out, "("), tokens...), ")")
+	return row.AppendSign(append(row.AppendSign(out, "("), tokens...), ")")
 }
 
 func appendBlock(out []api.Token, l []api.Cmd) []api.Token {
-	return appendSign(appendCmds(appendSign(out, "{"), l), "}")
+	return row.AppendSign(appendCmds(row.AppendSign(out, "{"), l), "}")
 }
 
 func appendRules(out []api.Token, l []api.Rule) []api.Token {
-	out = appendSign(out, "{")
+	out = row.AppendSign(out, "{")
 	for _, rule := range l {
 		out = appendBlock(appendHead(out, rule), rule.Body)
 	}
-	return appendSign(out, "}")
+	return row.AppendSign(out, "}")
 }
 
 // appendHead puts the tokens of rule, but for those of its Body, behind out.
 func appendHead(out []api.Token, rule api.Rule) []api.Token {
 	if rule.Peer != used {
-		out = appendNumber(appendFlag(out, "i"), rule.Peer)
+		out = row.AppendNumber(row.AppendFlag(out, "i"), rule.Peer)
 	}
 	if rule.Kind != api.RulePattern {
-		return appendWord(out, wordOf(rule.Kind))
+		return row.AppendWords(out, wordOf(rule.Kind))
 	}
-	return append(appendFlag(out, flagOf(rule.Pattern.Kind)), api.Token{Kind: api.TokText, Parts: partsOf(rule.Pattern.Text)})
-}
-
-// partsOf answers the parts of a text without variables.
-func partsOf(text string) []api.Part {
-	if text == "" {
-		return nil
-	}
-	return []api.Part{{Text: text}}
-}
-
-func appendWord(out []api.Token, text string) []api.Token {
-	return append(out, api.Token{Kind: api.TokWord, Word: text})
-}
-
-func appendSign(out []api.Token, text string) []api.Token {
-	return append(out, api.Token{Kind: api.TokSign, Word: text})
-}
-
-func appendFlag(out []api.Token, text string) []api.Token {
-	return append(out, api.Token{Kind: api.TokFlag, Word: text})
-}
-
-func appendNumber(out []api.Token, n int64) []api.Token {
-	return append(out, api.Token{Kind: api.TokNum, N: n})
+	return row.AppendPlain(row.AppendFlag(out, flagOf(rule.Pattern.Kind)), rule.Pattern.Text)
 }

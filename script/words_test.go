@@ -57,30 +57,30 @@ e = ( e )
 e = e OP e
 `
 
-// row is one of the grammar.
-type row struct {
+// line is one of the grammar.
+type line struct {
 	name string
 	of   []string
 }
 
-// spot is a row that is read up to a place, from a token on.
+// spot is a line that is read up to a place, from a token on.
 type spot struct {
 	row, at, from int
 }
 
 // earley goes through all ways in which tokens may be read.
 type earley struct {
-	rows  []row
+	rows  []line
 	sets  [][]spot
 	names map[string][]int
 }
 
 func newEarley() *earley {
 	g := &earley{names: map[string][]int{}}
-	for _, line := range strings.Split(strings.TrimSpace(grammar), "\n") {
-		name, of, _ := strings.Cut(line, " =")
+	for _, written := range strings.Split(strings.TrimSpace(grammar), "\n") {
+		name, of, _ := strings.Cut(written, " =")
 		g.names[name] = append(g.names[name], len(g.rows))
-		g.rows = append(g.rows, row{name, strings.Fields(of)})
+		g.rows = append(g.rows, line{name, strings.Fields(of)})
 	}
 	g.sets = [][]spot{g.closed([]spot{{0, 0, 0}}, 0)}
 	return g
